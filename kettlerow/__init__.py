@@ -1,0 +1,1 @@
+"""Kettlerow: juice boiled down along a row of kettles."""

@@ -1,0 +1,48 @@
+"""Fractions: tuples (top, bottom) in lowest terms, the bottom above 0."""
+
+from math import gcd
+
+from kettlerow.wholes import is_number
+
+
+def is_frac(thing):
+    """Whether a thing is a fraction."""
+    if not isinstance(thing, tuple) or len(thing) != 2:
+        return False
+    top, bottom = thing
+    if not is_number(top) or not is_number(bottom):
+        return False
+    return bottom > 0 and gcd(top, bottom) == 1
+
+
+def frac_of(top, bottom):
+    """The fraction that is top by bottom; the bottom is not 0."""
+    common = gcd(top, bottom)
+    if bottom < 0:
+        common = -common
+    return (top // common, bottom // common)
+
+
+def sum_of(one, other):
+    """The one and the other together."""
+    return frac_of(one[0] * other[1] + other[0] * one[1], one[1] * other[1])
+
+
+def difference(one, other):
+    """The one less the other."""
+    return frac_of(one[0] * other[1] - other[0] * one[1], one[1] * other[1])
+
+
+def product(one, other):
+    """The one times the other."""
+    return frac_of(one[0] * other[0], one[1] * other[1])
+
+
+def quotient(one, other):
+    """The one by the other, which is not 0."""
+    return frac_of(one[0] * other[1], one[1] * other[0])
+
+
+def is_lesser(one, other):
+    """Whether the one is less than the other."""
+    return one[0] * other[1] < other[0] * one[1]

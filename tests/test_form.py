@@ -1,0 +1,106 @@
+"""The form of the code: those rules of LANGUAGE.md that are quick to see."""
+
+import ast
+import pathlib
+import unittest
+
+FOLDER = pathlib.Path(__file__).resolve().parent.parent / "kettlerow"
+FILES = sorted(FOLDER.rglob("*.py"))
+
+BUILTINS = set(
+    "len range enumerate zip min max sum abs sorted reversed int str bool bytes list tuple dict set frozenset isinstance "
+    "ord repr any all divmod iter next map super property staticmethod classmethod NotImplemented "
+    "Exception ValueError TypeError KeyError IndexError LookupError ZeroDivisionError ArithmeticError OverflowError "
+    "RuntimeError NotImplementedError AttributeError StopIteration".split()
+)
+LIBRARY = {
+    "heapq": {"heappush", "heappop", "heapify", "heapreplace", "heappushpop"},
+    "math": {"gcd", "lcm", "isqrt", "comb", "perm", "factorial"},
+    "itertools": {"product", "combinations", "permutations"},
+}
+BARRED = (
+    ast.Global, ast.AsyncFunctionDef, ast.AsyncFor, ast.AsyncWith, ast.Await, ast.Div, ast.MatMult, ast.Import,
+)
+
+
+def read(path):
+    return path.read_bytes().decode("utf-8")
+
+
+def bound_names(tree):
+    """Every name that a file binds anywhere, as an import, a function, a class, a parameter or a variable."""
+    names = set()
+    for node in ast.walk(tree):
+        if isinstance(node, (ast.FunctionDef, ast.ClassDef)):
+            names.add(node.name)
+        elif isinstance(node, ast.arg):
+            names.add(node.arg)
+        elif isinstance(node, ast.alias):
+            names.add(node.name)
+        elif isinstance(node, ast.Name) and not isinstance(node.ctx, ast.Load):
+            names.add(node.id)
+        elif isinstance(node, (ast.ExceptHandler, ast.MatchAs, ast.MatchStar)) and node.name:
+            names.add(node.name)
+    return names
+
+
+class Form(unittest.TestCase):
+    def test_folder_holds_the_files_of_the_package_alone(self):
+        self.assertIn(FOLDER / "__init__.py", FILES)
+        for path in FOLDER.rglob("*"):
+            if "__pycache__" not in path.parts:
+                self.assertEqual(path.suffix, ".py", path)
+                self.assertFalse(path.name.startswith("test"), path)
+
+    def test_characters_and_sizes(self):
+        for path in FILES:
+            text = read(path)
+            with self.subTest(file=path.name):
+                self.assertEqual([sign for sign in text if sign != "\n" and not " " <= sign <= "~"], [])
+                rows = text.split("\n")
+                self.assertLessEqual(len(rows), 400)
+                self.assertLessEqual(max(len(row) for row in rows), 120)
+
+    def test_functions_are_short(self):
+        for path in FILES:
+            text = read(path)
+            with self.subTest(file=path.name):
+                for node in ast.walk(ast.parse(text)):
+                    if isinstance(node, ast.FunctionDef):
+                        self.assertLess(node.end_lineno - node.lineno, 40, node.name)
+
+    def test_no_barred_statements_or_values(self):
+        for path in FILES:
+            text = read(path)
+            with self.subTest(file=path.name):
+                for node in ast.walk(ast.parse(text)):
+                    self.assertNotIsInstance(node, BARRED)
+                    if isinstance(node, ast.Constant):
+                        self.assertNotIsInstance(node.value, (float, complex))
+                        self.assertNotIn("%", node.value if isinstance(node.value, str) else "")
+
+    def test_imports(self):
+        for path in FILES:
+            text = read(path)
+            with self.subTest(file=path.name):
+                for node in ast.walk(ast.parse(text)):
+                    if isinstance(node, ast.ImportFrom) and node.module != "__future__":
+                        self.assertEqual(node.level, 0)
+                        names = {alias.name for alias in node.names}
+                        self.assertNotIn("*", names)
+                        if not node.module.startswith("kettlerow."):
+                            self.assertLessEqual(names, LIBRARY.get(node.module, set()), node.module)
+
+    def test_builtins(self):
+        for path in FILES:
+            text = read(path)
+            with self.subTest(file=path.name):
+                tree = ast.parse(text)
+                bound = bound_names(tree)
+                read_names = {node.id for node in ast.walk(tree) if isinstance(node, ast.Name)}
+                self.assertLessEqual(read_names - bound, BUILTINS)
+                self.assertEqual(bound & BUILTINS, set())
+
+
+if __name__ == "__main__":
+    unittest.main()
