@@ -1,5 +1,6 @@
 """The refusals: what each is made with, and under which class it stands."""
 
+import inspect
 import unittest
 
 from kettlerow import errors
@@ -90,6 +91,12 @@ class Classes(unittest.TestCase):
             caught = [other.__name__ for other in TWENTY if isinstance(error, other)]
             self.assertEqual(caught, [kind.__name__])
             self.assertIsInstance(error, ValueError)
+
+    def test_each_tells_in_its_own_body_how_it_is_made(self):
+        for kind in [BoilError] + TWENTY:
+            with self.subTest(kind=kind.__name__):
+                self.assertIn("__init__", vars(kind))
+                self.assertEqual(list(inspect.signature(vars(kind)["__init__"]).parameters), ["self", "what"])
 
     def test_each_is_a_class_of_the_file(self):
         for name in NAMES + ["BoilError"]:
