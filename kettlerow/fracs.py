@@ -4,6 +4,9 @@ from math import gcd
 
 from kettlerow.wholes import is_number
 
+NOUGHT = (0, 1)
+ONE = (1, 1)
+
 
 def is_frac(thing):
     """Whether a thing is a fraction."""

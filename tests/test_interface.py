@@ -1,4 +1,4 @@
-"""The interface: each function stands in the file that lists it, with the arguments that it lists."""
+"""The interface: each function and class stands in the file that lists it, with the arguments that it lists."""
 
 import importlib
 import inspect
@@ -18,24 +18,67 @@ FUNCTIONS = {
         "frac_text": ["one"],
         "frac_in": ["text"],
     },
+    "juices": {
+        "is_juice": ["thing"],
+        "mixed": ["one", "other"],
+        "share_of": ["juice", "share"],
+        "rest_of": ["juice", "share"],
+        "volume_of": ["juice"],
+        "strength_of": ["juice"],
+    },
+    "boiling": {
+        "water_at": ["sugar", "mark"],
+        "boiled_down": ["juice", "fire", "mark", "hours"],
+        "ready_in": ["juice", "fire", "mark"],
+    },
+    "rowtext": {
+        "row_text": ["row"],
+        "row_from": ["text"],
+    },
 }
 
-ROWS = [(file, name, FUNCTIONS[file][name]) for file in FUNCTIONS for name in FUNCTIONS[file]]
+CLASSES = {
+    "rows": {
+        "Row": {"__init__": ["kettles", "moulds"]},
+    },
+}
+
+FUNCTION_ROWS = [(file, name, FUNCTIONS[file][name]) for file in FUNCTIONS for name in FUNCTIONS[file]]
+CLASS_ROWS = [(file, name, CLASSES[file][name]) for file in CLASSES for name in CLASSES[file]]
+
+
+def listed(file, name):
+    """What stands under a name of a file of the package."""
+    return getattr(importlib.import_module("kettlerow." + file), name)
 
 
 class Interface(unittest.TestCase):
     def test_each_function_is_defined_in_its_file(self):
-        for file, name, _ in ROWS:
+        for file, name, _ in FUNCTION_ROWS:
             with self.subTest(file=file, name=name):
-                function = getattr(importlib.import_module("kettlerow." + file), name)
+                function = listed(file, name)
                 self.assertTrue(inspect.isfunction(function))
                 self.assertEqual((function.__module__, function.__name__), ("kettlerow." + file, name))
 
     def test_each_function_has_its_arguments(self):
-        for file, name, arguments in ROWS:
+        for file, name, arguments in FUNCTION_ROWS:
             with self.subTest(file=file, name=name):
-                function = getattr(importlib.import_module("kettlerow." + file), name)
-                self.assertEqual(list(inspect.signature(function).parameters), arguments)
+                self.assertEqual(list(inspect.signature(listed(file, name)).parameters), arguments)
+
+    def test_each_class_is_defined_in_its_file(self):
+        for file, name, _ in CLASS_ROWS:
+            with self.subTest(file=file, name=name):
+                kind = listed(file, name)
+                self.assertTrue(inspect.isclass(kind))
+                self.assertEqual((kind.__module__, kind.__name__), ("kettlerow." + file, name))
+
+    def test_each_method_stands_in_its_class_itself_with_its_arguments(self):
+        for file, name, methods in CLASS_ROWS:
+            for method in methods:
+                with self.subTest(file=file, name=name, method=method):
+                    function = vars(listed(file, name))[method]
+                    self.assertTrue(inspect.isfunction(function))
+                    self.assertEqual(list(inspect.signature(function).parameters), ["self"] + methods[method])
 
 
 if __name__ == "__main__":

@@ -1,0 +1,64 @@
+"""What several tests need: Python's own fractions there and back, and numbers that look like chance."""
+
+from fractions import Fraction
+
+from kettlerow.errors import BoilError
+
+FORTY = 10 ** 40 - 1
+
+
+def pair(value):
+    """The tuple that a number or a Fraction of Python's is here."""
+    value = Fraction(value)
+    return (value.numerator, value.denominator)
+
+
+def juice(sugar, water):
+    """The juice of two numbers or Fractions of Python's."""
+    return (pair(sugar), pair(water))
+
+
+def values(one):
+    """A juice as two Fractions of Python's."""
+    return (Fraction(*one[0]), Fraction(*one[1]))
+
+
+def refusal(call, *arguments):
+    """The class's name and the what of the refusal of a call; None where it isn't refused."""
+    try:
+        call(*arguments)
+    except BoilError as error:
+        return (type(error).__name__, error.what)
+    return None
+
+
+def told_or_refused(call, *arguments):
+    """What a call tells, or the class's name and the what of its refusal."""
+    try:
+        return ("told", call(*arguments))
+    except BoilError as error:
+        return (type(error).__name__, error.what)
+
+
+def is_tuples_through(thing):
+    """Whether a thing is made of tuples, texts and plain numbers alone."""
+    if type(thing) is tuple:
+        return all(is_tuples_through(part) for part in thing)
+    return type(thing) in (int, str)
+
+
+class Turns:
+    """Numbers that look like chance and are the same in each run."""
+
+    def __init__(self, seed):
+        self.state = seed * 2654435761 + 12345
+
+    def below(self, many):
+        self.state = (self.state * 6364136223846793005 + 1442695040888963407) & (2 ** 64 - 1)
+        return (self.state >> 33) * many >> 31
+
+    def between(self, least, most):
+        return least + self.below(most - least + 1)
+
+    def one_of(self, things):
+        return things[self.below(len(things))]
