@@ -17,6 +17,14 @@ def mixed(one, other):
     return (sum_of(one[0], other[0]), sum_of(one[1], other[1]))
 
 
+def all_mixed(juices):
+    """All juices of a list together."""
+    whole = NOTHING
+    for juice in juices:
+        whole = mixed(whole, juice)
+    return whole
+
+
 def share_of(juice, share):
     """So much of a juice's sugar and of its water; the share is from 0 to 1."""
     return (product(juice[0], share), product(juice[1], share))

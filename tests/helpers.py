@@ -62,3 +62,24 @@ class Turns:
 
     def one_of(self, things):
         return things[self.below(len(things))]
+
+
+def kettles_told(kettles):
+    """All that a Kettles tells when it is asked."""
+    names = kettles.kettle_names()
+    each = [
+        (kettles.juice_of(name), kettles.in_work(name), kettles.is_ready(name), kettles.ready_at(name)) for name in names
+    ]
+    return (kettles.hour(), names, each, kettles.boiled_off())
+
+
+def moulds_told(moulds):
+    """All that a Moulds tells when it is asked."""
+    names = moulds.mould_names()
+    each = [(moulds.juice_in(name), moulds.is_cured(name), moulds.bears(name)) for name in names]
+    return (names, each, moulds.vat(), moulds.loaves())
+
+
+def works_told(works):
+    """All that a Works tells when it is asked."""
+    return (kettles_told(works.kettles_now()), moulds_told(works.moulds_now()), works.strikes(), works.sums())

@@ -18,6 +18,16 @@ LIBRARY = {
     "math": {"gcd", "lcm", "isqrt", "comb", "perm", "factorial"},
     "itertools": {"product", "combinations", "permutations"},
 }
+METHODS = set(
+    "append clear copy count endswith extend find get index insert isalnum isalpha isdigit islower isspace isupper items "
+    "join keys ljust lower lstrip partition pop remove replace reverse rfind rjust rpartition rsplit rstrip setdefault "
+    "split splitlines startswith strip update upper values zfill bit_length isascii isdecimal removeprefix removesuffix".split()
+)
+BARRED_WORDS = (
+    "register mro elements open input law eval exec globals locals getattr setattr hasattr vars dir id os sys super "
+    "type typing enum dataclass namedtuple overload contextmanager".split()
+)
+BUILTIN_KINDS = (str, int, list, dict, set, bytes)
 BARRED = (
     ast.Global, ast.AsyncFunctionDef, ast.AsyncFor, ast.AsyncWith, ast.Await, ast.Div, ast.MatMult, ast.Import,
 )
@@ -42,6 +52,22 @@ def bound_names(tree):
         elif isinstance(node, (ast.ExceptHandler, ast.MatchAs, ast.MatchStar)) and node.name:
             names.add(node.name)
     return names
+
+
+def attributes_of(tree):
+    """The nodes of all attributes of a file."""
+    return [node for node in ast.walk(tree) if isinstance(node, ast.Attribute)]
+
+
+def assigned_and_methods(trees):
+    """The names of the attributes that the package assigns, and those of its methods."""
+    assigned, methods = set(), set()
+    for tree in trees:
+        assigned |= {node.attr for node in attributes_of(tree) if isinstance(node.ctx, ast.Store)}
+        for node in ast.walk(tree):
+            if isinstance(node, ast.ClassDef):
+                methods |= {part.name for part in node.body if isinstance(part, ast.FunctionDef)}
+    return assigned, methods
 
 
 class Form(unittest.TestCase):
@@ -100,6 +126,36 @@ class Form(unittest.TestCase):
                 read_names = {node.id for node in ast.walk(tree) if isinstance(node, ast.Name)}
                 self.assertLessEqual(read_names - bound, BUILTINS)
                 self.assertEqual(bound & BUILTINS, set())
+
+    def test_imports_and_classes_have_their_names_alone(self):
+        for path in FILES:
+            with self.subTest(file=path.name):
+                tree = ast.parse(read(path))
+                tops = {node.name for node in tree.body if isinstance(node, ast.ClassDef)}
+                tops |= {alias.name for node in tree.body if isinstance(node, ast.ImportFrom) for alias in node.names}
+                inner = {node.arg for node in ast.walk(tree) if isinstance(node, ast.arg)}
+                inner |= {node.id for node in ast.walk(tree) if isinstance(node, ast.Name) and isinstance(node.ctx, ast.Store)}
+                inner |= {node.name for node in ast.walk(tree) if isinstance(node, ast.MatchAs)}
+                self.assertEqual(tops & inner, set())
+
+    def test_barred_words(self):
+        for path in FILES:
+            with self.subTest(file=path.name):
+                tree = ast.parse(read(path))
+                names = bound_names(tree) | {node.attr for node in attributes_of(tree)}
+                self.assertEqual(names & set(BARRED_WORDS), set())
+
+    def test_attributes(self):
+        trees = [ast.parse(read(path)) for path in FILES]
+        assigned, methods = assigned_and_methods(trees)
+        for kind in BUILTIN_KINDS:
+            self.assertEqual((assigned | methods) & set(dir(kind)) - {"__init__"}, set())
+        self.assertEqual(assigned & methods, set())
+        for tree in trees:
+            for node in attributes_of(tree):
+                self.assertIn(node.attr, assigned | methods | METHODS)
+                if isinstance(node.ctx, ast.Store):
+                    self.assertIsInstance(node.value, ast.Name)
 
 
 if __name__ == "__main__":

@@ -41,6 +41,54 @@ CLASSES = {
     "rows": {
         "Row": {"__init__": ["kettles", "moulds"]},
     },
+    "kettles": {
+        "Kettles": {
+            "__init__": ["row"],
+            "boil_on": ["hours"],
+            "pour": ["kettle", "juice"],
+            "dip": ["kettle", "share"],
+            "ladle": ["one", "other", "share"],
+            "skim": ["kettle", "share", "given", "other"],
+            "stop": ["kettle"],
+            "start": ["kettle"],
+            "hour": [],
+            "kettle_names": [],
+            "juice_of": ["kettle"],
+            "in_work": ["kettle"],
+            "is_ready": ["kettle"],
+            "ready_at": ["kettle"],
+            "boiled_off": [],
+            "like": [],
+        },
+    },
+    "moulds": {
+        "Moulds": {
+            "__init__": ["row"],
+            "fill": ["strike", "pours"],
+            "drain": ["mould"],
+            "knock": ["mould"],
+            "draw_off": ["share"],
+            "mould_names": [],
+            "juice_in": ["mould"],
+            "is_cured": ["mould"],
+            "bears": ["mould"],
+            "vat": [],
+            "loaves": [],
+            "like": [],
+        },
+    },
+    "works": {
+        "Works": {
+            "__init__": ["row"],
+            "boil_on": ["hours"],
+            "do": ["deed"],
+            "kettles_now": [],
+            "moulds_now": [],
+            "strikes": [],
+            "sums": [],
+            "like": [],
+        },
+    },
 }
 
 FUNCTION_ROWS = [(file, name, FUNCTIONS[file][name]) for file in FUNCTIONS for name in FUNCTIONS[file]]
