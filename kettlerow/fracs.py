@@ -31,6 +31,14 @@ def sum_of(one, other):
     return frac_of(one[0] * other[1] + other[0] * one[1], one[1] * other[1])
 
 
+def sum_of_all(ones):
+    """All fractions of a list together."""
+    whole = NOUGHT
+    for one in ones:
+        whole = sum_of(whole, one)
+    return whole
+
+
 def difference(one, other):
     """The one less the other."""
     return frac_of(one[0] * other[1] - other[0] * one[1], one[1] * other[1])

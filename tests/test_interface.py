@@ -35,6 +35,29 @@ FUNCTIONS = {
         "row_text": ["row"],
         "row_from": ["text"],
     },
+    "rounds": {
+        "are_kinds": ["thing"],
+        "walked_once": ["kinds", "amounts"],
+        "walked_on": ["kinds", "amounts", "many"],
+        "loaves_of": ["kinds", "amounts"],
+        "sold_of": ["kinds", "amounts"],
+        "gap_between": ["one", "other"],
+    },
+    "steady": {
+        "steady_state": ["kinds"],
+        "shows_steady": ["kinds", "thing"],
+        "rounds_till": ["kinds", "amounts", "most"],
+    },
+    "days": {
+        "is_day": ["thing"],
+        "shows_plan": ["day", "thing"],
+    },
+    "daymost": {
+        "most_plan": ["day"],
+        "first_hour": ["day", "many"],
+        "most_struck": ["day"],
+        "binding_places": ["day"],
+    },
 }
 
 CLASSES = {
