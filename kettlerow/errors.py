@@ -2,10 +2,11 @@
 
 
 class BoilError(ValueError):
-    """A refusal; its field what is what was refused."""
+    """A refusal; its field what is what was refused, its field word is the class's name."""
 
     def __init__(self, what):
         self.what = what
+        self.word = self.__class__.__name__
 
 
 class BadFrac(BoilError):
@@ -13,6 +14,7 @@ class BadFrac(BoilError):
 
     def __init__(self, what):
         self.what = what
+        self.word = self.__class__.__name__
 
 
 class BadKettles(BoilError):
@@ -20,6 +22,7 @@ class BadKettles(BoilError):
 
     def __init__(self, what):
         self.what = what
+        self.word = self.__class__.__name__
 
 
 class BadMoulds(BoilError):
@@ -27,6 +30,7 @@ class BadMoulds(BoilError):
 
     def __init__(self, what):
         self.what = what
+        self.word = self.__class__.__name__
 
 
 class BadRow(BoilError):
@@ -34,6 +38,7 @@ class BadRow(BoilError):
 
     def __init__(self, what):
         self.what = what
+        self.word = self.__class__.__name__
 
 
 class BadDeed(BoilError):
@@ -41,6 +46,7 @@ class BadDeed(BoilError):
 
     def __init__(self, what):
         self.what = what
+        self.word = self.__class__.__name__
 
 
 class NoKettle(BoilError):
@@ -48,6 +54,7 @@ class NoKettle(BoilError):
 
     def __init__(self, what):
         self.what = what
+        self.word = self.__class__.__name__
 
 
 class NoMould(BoilError):
@@ -55,6 +62,7 @@ class NoMould(BoilError):
 
     def __init__(self, what):
         self.what = what
+        self.word = self.__class__.__name__
 
 
 class NoShare(BoilError):
@@ -62,6 +70,7 @@ class NoShare(BoilError):
 
     def __init__(self, what):
         self.what = what
+        self.word = self.__class__.__name__
 
 
 class NoRoom(BoilError):
@@ -69,6 +78,7 @@ class NoRoom(BoilError):
 
     def __init__(self, what):
         self.what = what
+        self.word = self.__class__.__name__
 
 
 class NoHour(BoilError):
@@ -76,6 +86,7 @@ class NoHour(BoilError):
 
     def __init__(self, what):
         self.what = what
+        self.word = self.__class__.__name__
 
 
 class NoTelling(BoilError):
@@ -83,6 +94,7 @@ class NoTelling(BoilError):
 
     def __init__(self, what):
         self.what = what
+        self.word = self.__class__.__name__
 
 
 class NoSteady(BoilError):
@@ -90,6 +102,7 @@ class NoSteady(BoilError):
 
     def __init__(self, what):
         self.what = what
+        self.word = self.__class__.__name__
 
 
 class Empty(BoilError):
@@ -97,6 +110,7 @@ class Empty(BoilError):
 
     def __init__(self, what):
         self.what = what
+        self.word = self.__class__.__name__
 
 
 class Same(BoilError):
@@ -104,6 +118,7 @@ class Same(BoilError):
 
     def __init__(self, what):
         self.what = what
+        self.word = self.__class__.__name__
 
 
 class Stopped(BoilError):
@@ -111,6 +126,7 @@ class Stopped(BoilError):
 
     def __init__(self, what):
         self.what = what
+        self.word = self.__class__.__name__
 
 
 class InWork(BoilError):
@@ -118,6 +134,7 @@ class InWork(BoilError):
 
     def __init__(self, what):
         self.what = what
+        self.word = self.__class__.__name__
 
 
 class NotReady(BoilError):
@@ -125,6 +142,7 @@ class NotReady(BoilError):
 
     def __init__(self, what):
         self.what = what
+        self.word = self.__class__.__name__
 
 
 class TooStrong(BoilError):
@@ -132,6 +150,7 @@ class TooStrong(BoilError):
 
     def __init__(self, what):
         self.what = what
+        self.word = self.__class__.__name__
 
 
 class Cured(BoilError):
@@ -139,6 +158,7 @@ class Cured(BoilError):
 
     def __init__(self, what):
         self.what = what
+        self.word = self.__class__.__name__
 
 
 class NotCured(BoilError):
@@ -146,3 +166,4 @@ class NotCured(BoilError):
 
     def __init__(self, what):
         self.what = what
+        self.word = self.__class__.__name__

@@ -27,6 +27,14 @@ def frac_in(text):
     return one
 
 
+def frac_or_none(text):
+    """The fraction whose text this just is; None where there is none, or a longer one."""
+    try:
+        return frac_in(text)
+    except BadFrac:
+        return None
+
+
 def _read(text):
     """The top and the bottom that a text names, in whatever terms; None where it names none."""
     top, stroke, bottom = text.removeprefix("-").partition("/")

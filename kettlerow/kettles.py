@@ -4,7 +4,7 @@ from kettlerow.errors import InWork, NoKettle, Same, Stopped
 from kettlerow.fracs import NOUGHT, sum_of
 from kettlerow.juices import rest_of, share_of
 from kettlerow.kettle import Kettle
-from kettlerow.rows import Row
+from kettlerow.rows import SameRow
 from kettlerow.shares import need_share
 from kettlerow.vessels import need_some, poured_into
 
@@ -14,7 +14,7 @@ class Kettles:
 
     def __init__(self, row):
         # A row of its own, so that nothing handed in is read later.
-        self._row = Row(row.kettles, row.moulds)
+        self._row = SameRow(row)
         self._table = {name: Kettle(room, fire, mark) for name, room, fire, mark in row.kettles}
         self._hour = 0
         self._boiled = NOUGHT

@@ -3,7 +3,7 @@
 from kettlerow.errors import Cured, NoMould, NotCured
 from kettlerow.juices import NOTHING, mixed, rest_of, share_of
 from kettlerow.mould import Mould
-from kettlerow.rows import Row
+from kettlerow.rows import SameRow
 from kettlerow.shares import need_share
 from kettlerow.vessels import need_some, poured_into
 
@@ -15,7 +15,7 @@ class Moulds:
 
     def __init__(self, row):
         # A row of its own, so that nothing handed in is read later.
-        self._row = Row(row.kettles, row.moulds)
+        self._row = SameRow(row)
         self._table = {name: Mould(room, drip) for name, room, drip in row.moulds}
         self._vat = NOTHING
         self._loaves = []

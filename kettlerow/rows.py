@@ -27,6 +27,14 @@ class Row:
         self.moulds = moulds
 
 
+class SameRow:
+    """The fields of a Row, taken over as they are: what needs no Row that is checked again takes this for one."""
+
+    def __init__(self, row):
+        self.kettles = row.kettles
+        self.moulds = row.moulds
+
+
 def is_kettle(thing):
     """Whether a thing is a kettle (name, room, fire, mark) that a row can have."""
     if not isinstance(thing, tuple) or len(thing) != 4:

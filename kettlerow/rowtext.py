@@ -1,7 +1,7 @@
 """Rows as texts: a row of words for each kettle, then one for each mould."""
 
-from kettlerow.errors import BadFrac, BadRow
-from kettlerow.fractext import frac_in, frac_text
+from kettlerow.errors import BadRow
+from kettlerow.fractext import frac_or_none, frac_text
 from kettlerow.rows import MOST_KETTLES, MOST_MOULDS, Row, is_kettle, is_mould
 from kettlerow.wholes import figures_of, number_in
 
@@ -40,18 +40,10 @@ def _thing_in(words):
     """What the words of a row tell, which needn't be a kettle or a mould; () where they tell nothing."""
     match words:
         case ["kettle", name, room, fire, mark]:
-            return (name, number_in(room, MOST_FIGURES), number_in(fire, MOST_FIGURES), _frac_or_none(mark))
+            return (name, number_in(room, MOST_FIGURES), number_in(fire, MOST_FIGURES), frac_or_none(mark))
         case ["mould", name, room, drip]:
-            return (name, number_in(room, MOST_FIGURES), _frac_or_none(drip))
+            return (name, number_in(room, MOST_FIGURES), frac_or_none(drip))
     return ()
-
-
-def _frac_or_none(text):
-    """The fraction of a text; None where there is none."""
-    try:
-        return frac_in(text)
-    except BadFrac:
-        return None
 
 
 def _can_stand(thing, kettles, moulds):

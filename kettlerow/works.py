@@ -5,7 +5,7 @@ from kettlerow.fracs import NOUGHT, ONE, is_lesser, sum_of
 from kettlerow.juices import NOTHING, all_mixed, mixed, share_of, strength_of
 from kettlerow.kettles import Kettles
 from kettlerow.moulds import VAT, Moulds
-from kettlerow.rows import Row
+from kettlerow.rows import SameRow
 from kettlerow.shares import need_share
 from kettlerow.vessels import need_some
 
@@ -15,7 +15,7 @@ class Works:
 
     def __init__(self, row):
         # A row of its own, so that nothing handed in is read later.
-        self._row = Row(row.kettles, row.moulds)
+        self._row = SameRow(row)
         self._kettles = Kettles(row)
         self._moulds = Moulds(row)
         self._struck = []
@@ -58,6 +58,12 @@ class Works:
     def moulds_now(self):
         """A Moulds of its own that tells what these moulds tell now."""
         return self._moulds.like()
+
+    def basis_of(self, strike):
+        """What it rests on that a strike is refused for now: while this is the same, it is refused again."""
+        _, kettle, pours = strike
+        moulds = [(self._moulds.juice_in(mould), self._moulds.is_cured(mould)) for mould, _ in pours]
+        return (self._kettles.juice_of(kettle), moulds)
 
     def strikes(self):
         """All strikes (number, hour, kettle, filled), in order."""

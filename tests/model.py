@@ -1,6 +1,5 @@
 """Kettles, moulds and works reckoned with Python's own fractions, hour by hour, to hold the program against."""
 
-import copy
 from fractions import Fraction
 
 from helpers import juice, pair
@@ -23,6 +22,15 @@ def is_share(share):
     return 0 < Fraction(*share) <= 1 and share[1] <= 12
 
 
+def copied(thing):
+    """A copy of dicts and lists all through."""
+    if isinstance(thing, dict):
+        return {key: copied(thing[key]) for key in thing}
+    if isinstance(thing, list):
+        return [copied(part) for part in thing]
+    return thing
+
+
 class Model:
     """All of a row; each deed goes on a copy of the state, which is kept only where nothing is refused."""
 
@@ -38,7 +46,7 @@ class Model:
 
     def attempt(self, word, *arguments):
         """("told", answer) or the refusal of a deed, called as the program's methods and deeds are."""
-        before = copy.deepcopy(self.state)
+        before = copied(self.state)
         try:
             return ("told", getattr(self, "on_" + word)(*arguments))
         except Refused as refused:

@@ -153,7 +153,7 @@ class Form(unittest.TestCase):
         self.assertEqual(assigned & methods, set())
         for tree in trees:
             for node in attributes_of(tree):
-                self.assertIn(node.attr, assigned | methods | METHODS)
+                self.assertIn(node.attr, assigned | methods | METHODS | {"__class__", "__name__"})
                 if isinstance(node.ctx, ast.Store):
                     self.assertIsInstance(node.value, ast.Name)
 

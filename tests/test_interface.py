@@ -58,6 +58,15 @@ FUNCTIONS = {
         "most_struck": ["day"],
         "binding_places": ["day"],
     },
+    "dayproof": {
+        "shows_most": ["day", "many", "thing"],
+    },
+    "deeds": {
+        "is_deed": ["thing"],
+    },
+    "desk": {
+        "answers": ["text"],
+    },
 }
 
 CLASSES = {
@@ -109,6 +118,20 @@ CLASSES = {
             "moulds_now": [],
             "strikes": [],
             "sums": [],
+            "like": [],
+        },
+    },
+    "book": {
+        "Book": {
+            "__init__": ["row"],
+            "tell": ["hour", "deed"],
+            "untell": ["number"],
+            "tellings": [],
+            "works": ["hour"],
+            "done_by": ["hour"],
+            "waiting": ["hour"],
+            "voids": [],
+            "struck_at": ["number"],
             "like": [],
         },
     },
