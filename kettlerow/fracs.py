@@ -55,5 +55,5 @@ def quotient(one, other):
 
 
 def is_lesser(one, other):
-    """Whether the one is less than the other."""
-    return one[0] * other[1] < other[0] * one[1]
+    """Whether the one is less than the other, which may be anything: none is less than what is no fraction."""
+    return is_frac(other) and one[0] * other[1] < other[0] * one[1]

@@ -129,6 +129,7 @@ class Kettles:
 
     def _named(self, name):
         """The kettle of that name; NoKettle(name) where there is none."""
-        if name not in self._table:
+        # Whether a name is ready or cured may be asked of lists, too, which are no keys.
+        if not isinstance(name, str) or name not in self._table:
             raise NoKettle(name)
         return self._table[name]

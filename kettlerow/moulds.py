@@ -102,6 +102,7 @@ class Moulds:
 
     def _named(self, name):
         """The mould of that name; NoMould(name) where there is none."""
-        if name not in self._table:
+        # Whether a name is ready or cured may be asked of lists, too, which are no keys.
+        if not isinstance(name, str) or name not in self._table:
             raise NoMould(name)
         return self._table[name]

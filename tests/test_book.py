@@ -229,6 +229,20 @@ class StrikesThatWait(Checked):
         self.assert_waits(book, 3, 0, 6)
         self.assertEqual(book.struck_at(3), 7)
 
+    def test_no_room_till_it_is_drained_and_knocked_out_in_one_hour(self):
+        # Hour by hour the mould is as full as ahead of it, till all is done to it in hour 5.
+        tellings = [
+            (0, ("juice", "sirop", 100, 100)), (0, strike("sirop", ("cone", (1, 5)))), (0, strike("sirop", ("cone", (1, 5)))),
+            (5, ("drain", "cone")), (5, ("knock", "cone"))]
+        book = book_of(*tellings)
+        self.assert_waits(book, 3, 0, 5)
+        self.assertEqual(book.struck_at(3), 6)
+        # Filled again in that hour just as it was, it has no room again, and none later.
+        book = book_of(*tellings, (5, strike("sirop", ("cone", (1, 4)))))
+        self.assertEqual(book.works(4).moulds_now().juice_in("cone"), juice(20, 20))
+        self.assertEqual(book.works(5).moulds_now().juice_in("cone"), juice(20, 20))
+        self.assert_waits(book, 3, 0, 200)
+
     def test_no_room_till_the_kettle_has_less(self):
         book = book_of(
             (0, ("juice", "sirop", 100, 100)), (0, strike("sirop", ("cone", HALF))), (4, strike("sirop", ("bastard", (3, 4)))))

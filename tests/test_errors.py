@@ -42,6 +42,10 @@ class Whats(unittest.TestCase):
                     self.assertEqual(made.what, what)
                     self.assertIs(type(made.what), type(what))
 
+    def test_its_word_is_the_name_of_its_class(self):
+        for kind in [BoilError] + TWENTY:
+            self.assertEqual(raised(kind, "pan").word, kind.__name__)
+
     def test_what_is_told_again_the_same(self):
         for kind in [BoilError] + TWENTY:
             made = kind((1, 2))

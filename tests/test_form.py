@@ -138,6 +138,36 @@ class Form(unittest.TestCase):
                 inner |= {node.name for node in ast.walk(tree) if isinstance(node, ast.MatchAs)}
                 self.assertEqual(tops & inner, set())
 
+    def test_imports_are_used(self):
+        for path in FILES:
+            with self.subTest(file=path.name):
+                tree = ast.parse(read(path))
+                imported = {alias.name for node in tree.body if isinstance(node, ast.ImportFrom) for alias in node.names}
+                self.assertLessEqual(imported, {node.id for node in ast.walk(tree) if isinstance(node, ast.Name)})
+
+    def test_captured_names_are_nothing_else(self):
+        for path in FILES:
+            for function in [node for node in ast.walk(ast.parse(read(path))) if isinstance(node, ast.FunctionDef)]:
+                with self.subTest(file=path.name, function=function.name):
+                    nodes = list(ast.walk(function))
+                    captured = {node.name for node in nodes if isinstance(node, (ast.MatchAs, ast.MatchStar)) and node.name}
+                    others = {node.arg for node in nodes if isinstance(node, ast.arg)}
+                    others |= {node.id for node in nodes if isinstance(node, ast.Name) and isinstance(node.ctx, ast.Store)}
+                    self.assertEqual(captured & others, set())
+
+    def test_no_file_imports_itself_by_others(self):
+        imports = {}
+        for path in FILES:
+            modules = [node.module for node in ast.parse(read(path)).body if isinstance(node, ast.ImportFrom)]
+            imports["kettlerow." + path.stem] = {module for module in modules if module.startswith("kettlerow.")}
+        for module in imports:
+            reached = set()
+            ahead = set(imports[module])
+            while ahead:
+                reached |= ahead
+                ahead = {other for one in ahead for other in imports[one]} - reached
+            self.assertNotIn(module, reached)
+
     def test_barred_words(self):
         for path in FILES:
             with self.subTest(file=path.name):

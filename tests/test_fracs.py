@@ -245,6 +245,11 @@ class IsLesser(unittest.TestCase):
         self.assert_rising([(-100, 99), (-101, 100), (-1, 1), (-100, 101), (-99, 100)])
         self.assert_rising([(-FORTY, 1), (1 - FORTY, 1), (-1, FORTY - 1), (-1, FORTY), (0, 1), (1, FORTY)])
 
+    def test_than_what_is_no_fraction(self):
+        for one in FRACS:
+            for other in [None, True, 5, "", "1/2", (), [], (1,), (5, 0), (2, 4), (5, -1), [5, 1], (5, 1, 1), (True, 1), ("5", 1), [[[[[[]]]]]]]:
+                self.assertIs(is_lesser(one, other), False)
+
     def test_against_pythons_own(self):
         for one, other in PAIRS:
             with self.subTest(one=one, other=other):

@@ -9,6 +9,7 @@ from kettlerow.kettles import Kettles
 from kettlerow.rows import Row
 from model import Model
 from rowsmade import KETTLES, MOULDS
+from spoilt import ODD
 
 NO_KETTLES = ["pot", "", "cone", "Grande", "grand", "grandee", "vat", "grande ", "g" * 200]
 NO_SHARES = [
@@ -53,6 +54,10 @@ class EachRefusal(Checked):
             self.assert_refused(("NoKettle", name), "skim", "grande", (1, 2), (1, 2), name)
             for method in ["stop", "start", "juice_of", "in_work", "is_ready", "ready_at"]:
                 self.assert_refused(("NoKettle", name), method, name)
+
+    def test_ready_may_be_asked_of_anything(self):
+        for thing in ODD:
+            self.assert_refused(("NoKettle", thing), "is_ready", thing)
 
     def test_no_share(self):
         for share in NO_SHARES:

@@ -9,6 +9,7 @@ from kettlerow.moulds import Moulds
 from kettlerow.rows import Row
 from model import Model
 from rowsmade import KETTLES, MOULDS
+from spoilt import ODD
 
 NO_MOULDS = ["pot", "", "grande", "Cone", "con", "conee", "vat", "cone ", "c" * 200]
 NO_SHARES = [(0, 1), (-1, 2), (-1, 1), (3, 2), (13, 12), (2, 1), (1, 13), (12, 13), (7, 60), (1, FORTY), (FORTY, 1)]
@@ -45,6 +46,10 @@ class EachRefusal(Checked):
             self.assert_refused(("NoMould", name), "fill", 3, [(name, juice(1, 1))])
             for method in ["drain", "knock", "juice_in", "is_cured", "bears"]:
                 self.assert_refused(("NoMould", name), method, name)
+
+    def test_cured_may_be_asked_of_anything(self):
+        for thing in ODD:
+            self.assert_refused(("NoMould", thing), "is_cured", thing)
 
     def test_cured(self):
         self.assert_refused(("Cured", "cone"), "fill", 3, [("cone", juice(1, 0))])
